@@ -1,0 +1,1 @@
+"""Nominations by messages: parties, a house, and the net between them."""

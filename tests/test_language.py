@@ -1,0 +1,173 @@
+"""The package keeps to the part of Python that it may use, as far as a reader of its syntax can tell."""
+
+import ast
+import builtins
+import pathlib
+import re
+import unittest
+
+PACKAGE = pathlib.Path(__file__).resolve().parent.parent / "gatehouse"
+FILES = sorted(PACKAGE.glob("*.py"))
+
+NODES = (
+    ast.Module, ast.FunctionDef, ast.ClassDef, ast.arguments, ast.arg, ast.Assign, ast.If, ast.While, ast.For,
+    ast.Return, ast.Break, ast.Continue, ast.Pass, ast.Expr, ast.ImportFrom, ast.alias, ast.Constant, ast.Name,
+    ast.Attribute, ast.Subscript, ast.Slice, ast.List, ast.Tuple, ast.Dict, ast.BinOp, ast.UnaryOp, ast.BoolOp,
+    ast.Compare, ast.IfExp, ast.Call, ast.ListComp, ast.comprehension, ast.expr_context, ast.operator, ast.unaryop,
+    ast.boolop, ast.cmpop,
+)
+OWN_NAMES = set(
+    "len range enumerate zip min max sum abs sorted reversed int str bool list tuple dict isinstance any all divmod"
+    .split()
+)
+METHODS = set(
+    "append copy count extend get index insert items keys pop remove reverse setdefault update values".split()
+)
+UNUSED_WORDS = re.compile(
+    r"\b(type|typing|typing_extensions|enum|Enum|IntEnum|StrEnum|Flag|IntFlag|Generic|Protocol|ABC|ABCMeta|namedtuple"
+    r"|NamedTuple|TypedDict|TYPE_CHECKING|abstractmethod)\b|dataclass|overload|contextmanager"
+)
+UNUSED_NAMES = set(
+    "register mro elements open input version_info with_traceback add_note attrgetter breakpoint builtins compile"
+    " copyright credits delattr dir eval exec exit gc getattr globals hasattr help id importlib license locals"
+    " methodcaller os quit setattr super type vars sys".split()
+)
+
+
+def tree_of(path):
+    return ast.parse(path.read_text(encoding="utf-8"))
+
+
+def defined_in(tree):
+    names = set()
+    for node in tree.body:
+        if isinstance(node, (ast.FunctionDef, ast.ClassDef)):
+            names.add(node.name)
+        elif isinstance(node, ast.Assign):
+            names.add(node.targets[0].id)
+    return names
+
+
+def methods_of(tree):
+    classes = [node for node in ast.walk(tree) if isinstance(node, ast.ClassDef)]
+    return {node.name for kind in classes for node in kind.body if isinstance(node, ast.FunctionDef)}
+
+
+def values_of(tree):
+    attributes = [node for node in ast.walk(tree) if isinstance(node, ast.Attribute)]
+    return {node.attr for node in attributes if isinstance(node.ctx, ast.Store)}
+
+
+class Language(unittest.TestCase):
+    def for_each_file(self, check):
+        for path in FILES:
+            with self.subTest(file=path.name):
+                check(path, tree_of(path))
+
+    def test_files(self):
+        self.assertIn("nominations.py", [path.name for path in FILES])
+        for path in PACKAGE.iterdir():
+            if path.name != "__pycache__":
+                self.assertRegex(path.name, r"^(__init__|[a-z][a-z0-9_]*)\.py$")
+
+    def test_signs_sizes_and_words(self):
+        self.for_each_file(self.check_signs_sizes_and_words)
+
+    def check_signs_sizes_and_words(self, path, tree):
+        text = path.read_text(encoding="utf-8")
+        self.assertRegex(text, r"\A[ -~\n]*\Z")
+        self.assertLessEqual(len(text.splitlines()), 400)
+        self.assertLessEqual(max(len(row) for row in text.splitlines()), 120)
+        self.assertIsNone(UNUSED_WORDS.search(text))
+        for node in ast.walk(tree):
+            if isinstance(node, ast.FunctionDef):
+                self.assertLessEqual(node.end_lineno - node.lineno + 1, 40)
+
+    def test_statements_and_expressions(self):
+        self.for_each_file(self.check_statements_and_expressions)
+
+    def check_statements_and_expressions(self, path, tree):
+        for node in ast.walk(tree):
+            self.assertIsInstance(node, NODES)
+            if isinstance(node, ast.Assign):
+                self.assertEqual(len(node.targets), 1)
+                self.assertNotIsInstance(node.targets[0], ast.Tuple)
+            if isinstance(node, (ast.While, ast.For)):
+                self.assertEqual(node.orelse, [])
+            if isinstance(node, ast.BinOp):
+                self.assertNotIsInstance(node.op, (ast.Div, ast.MatMult, ast.Pow))
+            if isinstance(node, (ast.FunctionDef, ast.ClassDef)):
+                self.assertEqual(node.decorator_list, [])
+            if isinstance(node, ast.Constant):
+                self.assertIsInstance(node.value, (int, str, type(None)))
+            if isinstance(node, ast.Compare) and isinstance(node.ops[0], (ast.Is, ast.IsNot)):
+                self.assertIsInstance(node.comparators[0], ast.Constant)
+
+    def test_names(self):
+        self.for_each_file(self.check_names)
+
+    def check_names(self, path, tree):
+        imported = {a.name for n in ast.walk(tree) if isinstance(n, ast.ImportFrom) for a in n.names}
+        for node in ast.walk(tree):
+            if isinstance(node, ast.Name) and hasattr(builtins, node.id):
+                self.assertIn(node.id, OWN_NAMES)
+            bound = ""
+            if isinstance(node, ast.arg):
+                bound = node.arg
+            elif isinstance(node, ast.Name) and isinstance(node.ctx, ast.Store):
+                bound = node.id
+            self.assertFalse(bound.startswith("_"))
+            self.assertFalse(hasattr(builtins, bound), bound)
+            self.assertNotIn(bound, imported)
+            if isinstance(node, (ast.Name, ast.Attribute)):
+                self.assertNotIn(node.id if isinstance(node, ast.Name) else node.attr, UNUSED_NAMES)
+
+    def test_methods_and_values(self):
+        trees = [tree_of(path) for path in FILES]
+        methods = set().union(*[methods_of(tree) for tree in trees])
+        values = set().union(*[values_of(tree) for tree in trees])
+        self.assertEqual(methods & values, set())
+        python_own = set().union(*[dir(kind) for kind in (str, int, list, dict, set, bytes, tuple)])
+        self.assertEqual((methods | values) & python_own - {"__init__"}, set())
+        for node in [node for tree in trees for node in ast.walk(tree)]:
+            if isinstance(node, ast.Call) and isinstance(node.func, ast.Attribute):
+                self.assertIn(node.func.attr, methods | METHODS)
+
+    def test_imports(self):
+        draws = {}
+        for path in FILES:
+            tree = tree_of(path)
+            draws[path.stem] = []
+            for node in ast.walk(tree):
+                if isinstance(node, ast.ImportFrom):
+                    self.assertIn(node, tree.body)
+                    self.assertEqual((node.level, node.module.split(".")[0]), (0, "gatehouse"))
+                    stem = node.module.split(".")[1]
+                    draws[path.stem].append(stem)
+                    for alias in node.names:
+                        self.assertIsNone(alias.asname)
+                        self.assertIn(alias.name, defined_in(tree_of(PACKAGE / (stem + ".py"))))
+        # Taking away what draws on nothing that is left must leave nothing.
+        while draws:
+            free = [stem for stem in draws if not any(other in draws for other in draws[stem])]
+            self.assertNotEqual(free, [], draws)
+            draws = {stem: others for stem, others in draws.items() if stem not in free}
+
+    def test_top_of_each_file(self):
+        self.for_each_file(self.check_top_of_each_file)
+
+    def check_top_of_each_file(self, path, tree):
+        kinds = (ast.ImportFrom, ast.FunctionDef, ast.ClassDef, ast.Assign)
+        self.assertIsNotNone(ast.get_docstring(tree))
+        bound = []
+        for node in tree.body[1:]:
+            self.assertIsInstance(node, kinds)
+            if isinstance(node, ast.Assign):
+                bound.append(node.targets[0].id)
+            elif not isinstance(node, ast.ImportFrom):
+                bound.append(node.name)
+        self.assertEqual(len(bound), len(set(bound)))
+
+
+if __name__ == "__main__":
+    unittest.main()
