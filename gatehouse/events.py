@@ -29,7 +29,7 @@ def arrive(market, message):
     elif message.kind == KIND_MATCHED:
         receive_matched(market, message)
     else:
-        market.account_of(message.party).seen = True
+        receive_seen(market, message)
 
 
 def receive_sheet(market, message):
@@ -59,8 +59,14 @@ def receive_late(market, message):
 
 
 def receive_matched(market, message):
-    market.party_of(message.party).belief = message.sheet
+    party = market.party_of(message.party)
+    party.belief = message.sheet
     market.net.post(Message(KIND_SEEN, message.party, 0, {}))
+
+
+def receive_seen(market, message):
+    account = market.account_of(message.party)
+    account.seen = True
 
 
 def tick(market):

@@ -55,7 +55,8 @@ def clear_call(market, numbers):
     number = numbers[0]
     if number > market.party_count:
         return [NO_SUCH_PARTY]
-    market.party_of(number).draft = {}
+    party = market.party_of(number)
+    party.draft = {}
     return [ACCEPTED]
 
 

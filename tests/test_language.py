@@ -43,7 +43,7 @@ def defined_in(tree):
     for node in tree.body:
         if isinstance(node, (ast.FunctionDef, ast.ClassDef)):
             names.add(node.name)
-        elif isinstance(node, ast.Assign):
+        elif isinstance(node, ast.Assign) and isinstance(node.targets[0], ast.Name):
             names.add(node.targets[0].id)
     return names
 
@@ -56,6 +56,82 @@ def methods_of(tree):
 def values_of(tree):
     attributes = [node for node in ast.walk(tree) if isinstance(node, ast.Attribute)]
     return {node.attr for node in attributes if isinstance(node.ctx, ast.Store)}
+
+
+def names_bound(tree):
+    """The names of a file's top: what it defines and what it imports."""
+    imported = {alias.name for node in tree.body if isinstance(node, ast.ImportFrom) for alias in node.names}
+    return defined_in(tree) | imported
+
+
+def locals_of(function):
+    """The parameters of a function and the names that are given a value in it."""
+    names = {node.arg for node in ast.walk(function.args) if isinstance(node, ast.arg)}
+    for node in ast.walk(function):
+        if isinstance(node, ast.Name) and isinstance(node.ctx, ast.Store):
+            names.add(node.id)
+    return names
+
+
+def way_in(target):
+    """What a row gives its value through: what stands before all attributes and indexes."""
+    while isinstance(target, (ast.Attribute, ast.Subscript)):
+        target = target.value
+    return target
+
+
+def stray_stores(tree):
+    """L18: the rows that give a value to an attribute or an index, but not through a local name."""
+    top = names_bound(tree)
+    through_locals = set()
+    for function in [node for node in ast.walk(tree) if isinstance(node, ast.FunctionDef)]:
+        names = locals_of(function) - top
+        for node in ast.walk(function):
+            way = way_in(node)
+            if isinstance(way, ast.Name) and way.id in names:
+                through_locals.add(node)
+    stored = [node for node in ast.walk(tree) if isinstance(node, (ast.Attribute, ast.Subscript))
+              and isinstance(node.ctx, ast.Store)]
+    return sorted({node.lineno for node in stored if node not in through_locals})
+
+
+class Stores(unittest.TestCase):
+    """The look for rule L18, on rows that keep to it and on rows that don't."""
+
+    TOP = "from gatehouse.net import Net\n\nTABLE = {}\n\n\nclass Box:\n    def __init__(self):\n        self.lid = 0\n"
+
+    def rows(self, *body):
+        head = self.TOP + "\n\ndef work(market, number):\n"
+        found = stray_stores(ast.parse(head + "".join(f"    {row}\n" for row in body)))
+        return [row - head.count("\n") for row in found]
+
+    def test_through_a_local_name(self):
+        for body in (["market.time = 1"], ["market.net.time = 1"], ["market[number] = 1"], ["market.parties[0] = 1"],
+                     ["box = Box()", "box.lid = 1"], ["for box in market.boxes:", "    box.lid = number"],
+                     ["box = market.box_of(number).inner", "box.lid = 1"], ["number = TABLE"], ["market.take(1)"]):
+            with self.subTest(body=body):
+                self.assertEqual(self.rows(*body), [])
+
+    def test_through_what_a_call_gives_back(self):
+        for row in ("market.account_of(number).seen = True", "market.party_of(number).belief = market.sheet",
+                    "market.party_of(number).draft = {}", "market.party_of(number).draft.inner = 1",
+                    "market.sheet_of(number)[1] = 2", "market.party_of(number).draft[1] = 2", "Box().lid = 1",
+                    "market.party_of(number).version += 1", "for market.party_of(number).draft in []: pass"):
+            with self.subTest(row=row):
+                self.assertEqual(self.rows("number = 1", row, "return number"), [2])
+
+    def test_through_another_expression(self):
+        for row in ("(market or number).time = 1", "[market, number][0].time = 1", "(market if number else 1).x = 1"):
+            with self.subTest(row=row):
+                self.assertEqual(self.rows(row), [1])
+
+    def test_to_a_class_or_to_a_name_of_the_top(self):
+        for row in ("Box.lid = 1", "Net.most = 1", "TABLE[1] = 2", "TABLE.inner = 2", "work.calls = 1"):
+            with self.subTest(row=row):
+                self.assertEqual(self.rows(row), [1])
+
+    def test_at_the_top_itself(self):
+        self.assertEqual(stray_stores(ast.parse("TABLE = {}\nTABLE[1] = 2\n")), [2])
 
 
 class Language(unittest.TestCase):
@@ -102,6 +178,12 @@ class Language(unittest.TestCase):
                 self.assertIsInstance(node.value, (int, str, type(None)))
             if isinstance(node, ast.Compare) and isinstance(node.ops[0], (ast.Is, ast.IsNot)):
                 self.assertIsInstance(node.comparators[0], ast.Constant)
+
+    def test_values_are_given_through_local_names(self):
+        self.for_each_file(self.check_values_are_given_through_local_names)
+
+    def check_values_are_given_through_local_names(self, path, tree):
+        self.assertEqual(stray_stores(tree), [])
 
     def test_names(self):
         self.for_each_file(self.check_names)
