@@ -1,9 +1,9 @@
 """The calls: what each one takes, refuses and answers."""
 
 from gatehouse.events import arrive, calm, send, tick
-from gatehouse.market import Market
-from gatehouse.net import describe
-from gatehouse.sheets import write_amount
+from gatehouse.market import Market, list_unmatched, matched_sheet, matched_sum
+from gatehouse.net import describe, describe_all
+from gatehouse.sheets import list_rows, write_amount
 
 ACCEPTED = 0
 OUT_OF_RANGE = -1
@@ -13,6 +13,7 @@ NO_SUCH_QUARTER = -4
 NO_MORE_VERSIONS = -5
 NO_SUCH_MESSAGE = -6
 NET_IS_FULL = -7
+NOT_YET = -8
 
 CALL_OPEN = 0
 LAST_VERSION = 50
@@ -29,7 +30,20 @@ RANGES = {
     7: ((1, 40),),
     8: ((1, 5),),
     9: ((1, 4),),
+    10: ((1, 4),),
+    11: ((1, 4),),
+    12: ((1, 4),),
+    13: ((1, 4),),
+    14: ((1, 4),),
+    15: (),
+    16: (),
+    17: (),
+    18: ((1, 3),),
 }
+
+# The calls whose first number is a party. That there is such a party is looked
+# at for all of them in one place, as it comes before what each one refuses itself.
+PARTY_CALLS = (1, 2, 3, 9, 10, 11, 12, 13, 14)
 
 
 # An open call puts a whole new market in the place of the one before, so the
@@ -43,7 +57,7 @@ def write_call(market, numbers):
     number = numbers[0]
     other = numbers[1]
     quarter = numbers[2]
-    if number > market.party_count or other > market.party_count or number == other:
+    if other > market.party_count or number == other:
         return [NO_SUCH_PARTY]
     if quarter > market.quarter_count:
         return [NO_SUCH_QUARTER]
@@ -52,18 +66,13 @@ def write_call(market, numbers):
 
 
 def clear_call(market, numbers):
-    number = numbers[0]
-    if number > market.party_count:
-        return [NO_SUCH_PARTY]
-    party = market.party_of(number)
+    party = market.party_of(numbers[0])
     party.draft = {}
     return [ACCEPTED]
 
 
 def send_call(market, numbers):
     number = numbers[0]
-    if number > market.party_count:
-        return [NO_SUCH_PARTY]
     party = market.party_of(number)
     if party.version >= LAST_VERSION:
         return [NO_MORE_VERSIONS]
@@ -117,14 +126,57 @@ def calm_call(market, numbers):
 
 
 def party_call(market, numbers):
-    number = numbers[0]
-    if number > market.party_count:
-        return [NO_SUCH_PARTY]
-    party = market.party_of(number)
+    party = market.party_of(numbers[0])
     waits = as_number(party.waits)
     too_late = as_number(party.too_late)
     believes = as_number(party.belief is not None)
     return [ACCEPTED, party.version, party.acked, waits, too_late, believes]
+
+
+def house_call(market, numbers):
+    account = market.account_of(numbers[0])
+    return [ACCEPTED, account.version, as_number(account.seen)]
+
+
+def draft_call(market, numbers):
+    return [ACCEPTED] + list_rows(market.party_of(numbers[0]).draft)
+
+
+def held_call(market, numbers):
+    return [ACCEPTED] + list_rows(market.account_of(numbers[0]).sheet)
+
+
+def final_call(market, numbers):
+    if not market.closed:
+        return [NOT_YET]
+    return [ACCEPTED] + list_rows(matched_sheet(market, numbers[0]))
+
+
+def belief_call(market, numbers):
+    belief = market.party_of(numbers[0]).belief
+    # Nothing matched is believed too: an empty sheet isn't the same as none.
+    if belief is None:
+        return [NOT_YET]
+    return [ACCEPTED] + list_rows(belief)
+
+
+def flying_call(market, numbers):
+    return [ACCEPTED] + describe_all(market.net)
+
+
+def unmatched_call(market, numbers):
+    return [ACCEPTED] + list_unmatched(market)
+
+
+def now_call(market, numbers):
+    return [ACCEPTED, market.time, as_number(market.closed)]
+
+
+def total_call(market, numbers):
+    quarter = numbers[0]
+    if quarter > market.quarter_count:
+        return [NO_SUCH_QUARTER]
+    return [ACCEPTED] + [matched_sum(market, number, quarter) for number in range(1, market.party_count + 1)]
 
 
 HANDLERS = {
@@ -137,6 +189,15 @@ HANDLERS = {
     7: double_call,
     8: calm_call,
     9: party_call,
+    10: house_call,
+    11: draft_call,
+    12: held_call,
+    13: final_call,
+    14: belief_call,
+    15: flying_call,
+    16: unmatched_call,
+    17: now_call,
+    18: total_call,
 }
 
 
@@ -157,7 +218,10 @@ def answer_call(session, call, numbers):
     if call == CALL_OPEN:
         session.market = Market(numbers[0], numbers[1], numbers[2])
         return [ACCEPTED]
-    if session.market is None:
+    market = session.market
+    if market is None:
         return [NOTHING_OPEN]
+    if call in PARTY_CALLS and numbers[0] > market.party_count:
+        return [NO_SUCH_PARTY]
     handler = HANDLERS[call]
-    return handler(session.market, numbers)
+    return handler(market, numbers)

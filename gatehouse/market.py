@@ -43,13 +43,32 @@ class Market:
         return self.accounts[number - 1]
 
 
+def held_amount(market, number, other, quarter):
+    return read_amount(market.account_of(number).sheet, other, quarter)
+
+
 def matched_sheet(market, number):
-    own_sheet = market.account_of(number).sheet
     matched = {}
     for other in range(1, market.party_count + 1):
-        other_sheet = market.account_of(other).sheet
         for quarter in range(1, market.quarter_count + 1):
-            own = read_amount(own_sheet, other, quarter)
-            theirs = read_amount(other_sheet, number, quarter)
+            own = held_amount(market, number, other, quarter)
+            theirs = held_amount(market, other, number, quarter)
             write_amount(matched, other, quarter, match_amounts(own, theirs))
     return matched
+
+
+def matched_sum(market, number, quarter):
+    matched = matched_sheet(market, number)
+    return sum([read_amount(matched, other, quarter) for other in range(1, market.party_count + 1)])
+
+
+def list_unmatched(market):
+    unmatched = []
+    for number in range(1, market.party_count + 1):
+        for other in range(number + 1, market.party_count + 1):
+            for quarter in range(1, market.quarter_count + 1):
+                own = held_amount(market, number, other, quarter)
+                theirs = held_amount(market, other, number, quarter)
+                if own != -theirs:
+                    unmatched.extend([number, other, quarter, own, theirs])
+    return unmatched

@@ -44,3 +44,10 @@ class Net:
 
 def describe(message):
     return [message.kind, message.party, message.version, count_rows(message.sheet)]
+
+
+def describe_all(net):
+    described = []
+    for message in net.messages:
+        described.extend(describe(message))
+    return described

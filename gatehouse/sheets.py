@@ -21,6 +21,14 @@ def count_rows(sheet):
     return len(sheet)
 
 
+def list_rows(sheet):
+    rows = []
+    # The dict has its keys in the order in which they were written.
+    for other, quarter in sorted(sheet):
+        rows.extend([other, quarter, sheet[(other, quarter)]])
+    return rows
+
+
 def match_amounts(own, theirs):
     if own > 0 and theirs < 0:
         return min(own, -theirs)

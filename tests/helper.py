@@ -21,6 +21,19 @@ lose = named(6)
 double = named(7)
 calm = named(8)
 party = named(9)
+house = named(10)
+draft = named(11)
+held = named(12)
+final = named(13)
+belief = named(14)
+flying = named(15)
+unmatched = named(16)
+now = named(17)
+total = named(18)
+
+# Every call that only asks, with every number that it takes.
+QUESTIONS = [ask(number) for ask in (party, house, draft, held, final, belief) for number in (1, 2, 3, 4)]
+QUESTIONS += [flying(), unmatched(), now(), total(1), total(2), total(3)]
 
 
 def line(calls):
@@ -69,10 +82,15 @@ def filled(count, parties=4, quarters=3, gate=100):
     return calls + [double(1)] * (count - 1)
 
 
+def arrived(*writes, parties=4, quarters=3, gate=100):
+    """Calls after which the house holds, for each party, the amounts that it wrote; the net is empty, the time 0."""
+    calls = opened(parties, quarters, gate) + [write(*numbers) for numbers in writes]
+    calls += [send(number) for number in range(1, parties + 1)]
+    return calls + [deliver(1)] * (2 * parties)
 
 
 def performed(calls):
-    """The session after these calls, to look at what no call answers yet."""
+    """The session after these calls, to look at what no call answers, such as the sheets of messages."""
     session = Session()
     for call in calls:
         answer_call(session, call[0], list(call[1:]))

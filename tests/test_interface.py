@@ -6,7 +6,10 @@ import unittest
 
 import gatehouse.nominations
 from gatehouse.nominations import answers
-from tests.helper import calm, clear, deliver, double, line, lose, open_, party, run, send, tick, write
+from tests.helper import (
+    BILLION, QUESTIONS, calm, clear, deliver, double, flying, line, lose, now, open_, run, send, tick, total, unmatched,
+    write,
+)
 
 
 class Unchangeable(list):
@@ -21,7 +24,8 @@ class Unchangeable(list):
 
 EVERY_CALL = [
     open_(3, 2, 2), write(1, 2, 1, 5), write(2, 1, 1, -7), write(1, 3, 2, 4), clear(3), send(1), send(2), tick(),
-    deliver(1), lose(1), double(1), calm(2), party(1), party(2), party(3), party(4), deliver(40), deliver(41),
+    deliver(1), lose(1), double(1), flying(), calm(2), flying(), *QUESTIONS, calm(1), *QUESTIONS, deliver(40),
+    deliver(41),
 ]
 
 
@@ -33,7 +37,41 @@ class Interface(unittest.TestCase):
         self.assertEqual(answers([0, 2, 1, 1]), [1, 0])
         self.assertEqual(answers([0, 1, 1, 1]), [1, -1])
         self.assertEqual(answers([1, 1, 2, 1, 5]), [1, -2])
-        self.assertEqual(answers([9, 1]), [1, -2])
+        for call in ([9, 1], [10, 1], [11, 1], [12, 1], [13, 1], [14, 1], [15], [16], [17], [18, 1]):
+            self.assertEqual(answers(call), [1, -2])
+        for call in ([9, 0], [10, 5], [11, 0], [12, 5], [13, -1], [14, 10 ** 18], [18, 4], [18, -10 ** 18]):
+            self.assertEqual(answers(call), [1, -1])
+
+    def test_each_answer_of_a_question_has_its_count_before_it(self):
+        calls = [0, 2, 2, 1, 1, 1, 2, 2, 5, 1, 1, 2, 1, 3, 3, 1, 15, 5, 1, 16, 10, 1, 10, 2, 11, 1, 11, 2, 12, 1, 13, 1,
+                 14, 1, 18, 1, 18, 3, 17, 4, 17, 13, 1, 14, 3, 5, 2, 14, 1, 15]
+        expected = [
+            1, 0,
+            1, 0,
+            1, 0,
+            2, 0, 1,
+            5, 0, 1, 1, 1, 2,
+            5, 0, 1, 1, 1, 2,
+            11, 0, 1, 2, 1, 3, 0, 1, 2, 2, 5, 0,
+            3, 0, 1, 0,
+            3, 0, 0, 0,
+            7, 0, 2, 1, 3, 2, 2, 5,
+            1, 0,
+            7, 0, 2, 1, 3, 2, 2, 5,
+            1, -8,
+            1, -8,
+            3, 0, 0, 0,
+            1, -4,
+            3, 0, 0, 0,
+            4, 0, 1, 1, 4,
+            3, 0, 1, 1,
+            1, 0,
+            1, -3,
+            5, 0, 1, 1, 1, 2,
+            1, -8,
+            17, 0, 2, 1, 1, 0, 4, 1, 0, 0, 4, 2, 0, 0, 2, 1, 1, 0,
+        ]
+        self.assertEqual(answers(calls), expected)
 
     def test_each_answer_has_its_count_before_it(self):
         calls = [0, 2, 1, 3, 1, 1, 2, 1, 5, 2, 2, 3, 1, 4, 5, 1, 6, 1, 7, 1, 8, 1, 9, 1, 9, 3]
@@ -70,9 +108,38 @@ class Interface(unittest.TestCase):
         given = answers(line(calls))
         self.assertEqual(given, [1, 0] * 399 + [2, 0, 1])
 
+    def test_line_of_400_calls_with_the_longest_answers(self):
+        # 40 messages in the net, and nobody agrees with anybody on anything.
+        writes = [write(one, other, quarter, BILLION) for one in (1, 2, 3, 4) for other in (1, 2, 3, 4)
+                  for quarter in (1, 2, 3) if one != other]
+        calls = [open_(4, 3, 100)] + writes + [send(number) for number in (1, 2, 3, 4)] + [deliver(1)] * 8
+        calls += [send(1)] + [double(1)] * 39
+        calls += [flying(), unmatched()] * ((400 - len(calls)) // 2)
+        calls += [now()] * (400 - len(calls))
+        given = run(*calls)
+        self.assertEqual(len(given), 400)
+        shown = [0] + [1, 1, 2, 9] * 40
+        disagreed = [0]
+        for one, other in ((1, 2), (1, 3), (1, 4), (2, 3), (2, 4), (3, 4)):
+            for quarter in (1, 2, 3):
+                disagreed += [one, other, quarter, BILLION, BILLION]
+        self.assertEqual((len(shown), len(disagreed)), (161, 91))
+        self.assertEqual([answer for answer in given if len(answer) == 161][-1], shown)
+        self.assertEqual([answer for answer in given if len(answer) == 91][-1], disagreed)
+        self.assertLess(len(answers(line(calls))), 10 ** 6)
+
+    def test_line_of_400_questions(self):
+        calls = [open_(4, 3, 1)] + (QUESTIONS * 14)[:399]
+        self.assertEqual(len(run(*calls)), 400)
+        for start in (1, 1 + len(QUESTIONS)):
+            self.assertEqual(run(*calls)[start:start + len(QUESTIONS)],
+                             [[0, 0, 0, 0, 0, 0]] * 4 + [[0, 0, 0]] * 4 + [[0]] * 8 + [[-8]] * 8
+                             + [[0], [0], [0, 0, 0]] + [[0, 0, 0, 0, 0]] * 3)
+
     def test_line_of_400_open_calls_and_of_400_refusals(self):
         self.assertEqual(answers([0, 4, 3, 100] * 400), [1, 0] * 400)
         self.assertEqual(answers([4] * 400), [1, -2] * 400)
+        self.assertEqual(answers([18, 0] * 400), [1, -1] * 400)
 
     def test_line_of_400_calms_of_the_longest_kind(self):
         given = run(open_(4, 3, 100), *[calm(5)] * 399)
@@ -101,6 +168,11 @@ class Interface(unittest.TestCase):
         self.assertEqual(answers([4]), [1, -2])
         self.assertEqual(answers([9, 1]), [1, -2])
         self.assertEqual(answers([0, 4, 3, 1, 9, 1, 5, 1]), [1, 0, 6, 0, 0, 0, 0, 0, 0, 1, -6])
+        asked = line([open_(4, 3, 1)] + QUESTIONS)
+        first = answers(asked)
+        answers(line(EVERY_CALL))
+        self.assertEqual(answers(asked), first)
+        self.assertEqual(answers(line([open_(2, 1, 1), total(1), now()])), [1, 0, 3, 0, 0, 0, 3, 0, 0, 0])
 
     def test_answers_are_whole_numbers_and_never_truths(self):
         for number in answers(line(EVERY_CALL)):

@@ -95,6 +95,169 @@ def stray_stores(tree):
     return sorted({node.lineno for node in stored if node not in through_locals})
 
 
+def parents_of(tree):
+    return {child: node for node in ast.walk(tree) for child in ast.iter_child_nodes(node)}
+
+
+def is_plain(value, functions):
+    """L3: whether this may stand at a file's top as a value; functions: those that are defined above it."""
+    if isinstance(value, ast.UnaryOp) and isinstance(value.op, ast.USub):
+        return isinstance(value.operand, ast.Constant)
+    if isinstance(value, (ast.List, ast.Tuple)):
+        return all(is_plain(member, functions) for member in value.elts)
+    if isinstance(value, ast.Dict):
+        return all(is_plain(member, functions) for member in value.keys + value.values)
+    return isinstance(value, ast.Constant) or (isinstance(value, ast.Name) and value.id in functions)
+
+
+def stray_tops(tree):
+    """L3, L15: the rows of a file's top whose value isn't plain, or is a list or dict with another one in it."""
+    rows = []
+    functions = set()
+    for node in tree.body:
+        if isinstance(node, ast.FunctionDef):
+            functions.add(node.name)
+        if isinstance(node, ast.Assign):
+            within = [part for part in ast.walk(node.value) if isinstance(part, (ast.List, ast.Dict))]
+            if not is_plain(node.value, functions) or [part for part in within if part != node.value]:
+                rows.append(node.lineno)
+    return rows
+
+
+def stray_tables(tree):
+    """L15: the rows that do something else with a list or dict of the top than to read it where it stands."""
+    tables = {node.targets[0].id for node in tree.body if isinstance(node, ast.Assign)
+              and isinstance(node.value, (ast.List, ast.Dict))}
+    parents = parents_of(tree)
+    rows = []
+    for node in ast.walk(tree):
+        if isinstance(node, ast.Name) and node.id in tables and node not in [row.targets[0] for row in tree.body
+                                                                             if isinstance(row, ast.Assign)]:
+            around = parents[node]
+            read = isinstance(around, ast.Subscript) and isinstance(around.ctx, ast.Load) and around.value == node
+            asked = isinstance(around, ast.Compare) and node in around.comparators
+            walked = isinstance(around, (ast.For, ast.comprehension)) and around.iter == node
+            got = isinstance(around, ast.Attribute) and around.attr in ("get", "items", "keys", "values")
+            counted = isinstance(around, ast.Call) and isinstance(around.func, ast.Name) and node in around.args \
+                and around.func.id in ("len", "list", "dict", "sorted", "tuple", "sum", "min", "max", "any", "all")
+            if not (read or asked or walked or got or counted):
+                rows.append(node.lineno)
+    return rows
+
+
+WALKED = ("zip", "enumerate", "reversed", "range")
+WALKED_METHODS = ("items", "keys", "values")
+WALKERS = ("list", "tuple", "dict", "sorted", "sum", "any", "all", "enumerate", "zip", "min", "max")
+CHANGES = ("append", "clear", "extend", "insert", "pop", "remove", "reverse", "setdefault", "update")
+
+
+def stray_walks(tree):
+    """L23: the rows that keep what is to be walked on the spot, or change what the loop around them walks."""
+    parents = parents_of(tree)
+    rows = []
+    for node in ast.walk(tree):
+        if isinstance(node, ast.Call):
+            own = isinstance(node.func, ast.Name) and node.func.id in WALKED
+            method = isinstance(node.func, ast.Attribute) and node.func.attr in WALKED_METHODS
+            around = parents[node]
+            walked = isinstance(around, (ast.For, ast.comprehension)) and around.iter == node
+            handed = isinstance(around, ast.Call) and isinstance(around.func, ast.Name) and around.func.id in WALKERS \
+                and around.args[0] == node
+            if (own or method) and not (walked or handed):
+                rows.append(node.lineno)
+        if isinstance(node, ast.For):
+            copied = isinstance(node.iter, ast.Call) and isinstance(node.iter.func, ast.Name) \
+                and node.iter.func.id in ("list", "sorted", "tuple", "range")
+            sources = [] if copied else [ast.unparse(part) for part in ast.walk(node.iter)
+                                         if isinstance(part, (ast.Name, ast.Attribute))]
+            for part in [part for row in node.body for part in ast.walk(row)]:
+                changed = None
+                if isinstance(part, ast.Call) and isinstance(part.func, ast.Attribute) and part.func.attr in CHANGES:
+                    changed = part.func.value
+                if isinstance(part, ast.Subscript) and isinstance(part.ctx, ast.Store):
+                    changed = part.value
+                if changed is not None and ast.unparse(changed) in sources:
+                    rows.append(part.lineno)
+    return rows
+
+
+def stray_defs(tree):
+    """L4, L5, L28: functions with other than plain parameters, classes with other than methods in them."""
+    rows = []
+    for node in ast.walk(tree):
+        if isinstance(node, ast.FunctionDef):
+            given = node.args
+            if given.vararg or given.kwarg or given.kwonlyargs or given.posonlyargs:
+                rows.append(node.lineno)
+            if not all(is_plain(value, set()) for value in given.defaults):
+                rows.append(node.lineno)
+            if node.name == "__init__" and any(isinstance(part, ast.Return) for part in ast.walk(node)):
+                rows.append(node.lineno)
+        if isinstance(node, ast.ClassDef):
+            names = [part.name for part in node.body if isinstance(part, ast.FunctionDef)]
+            if len(names) != len(node.body) or len(names) != len(set(names)) or len(node.bases) > 1:
+                rows.append(node.lineno)
+    return rows
+
+
+def stray_classes(tree, classes):
+    """L18: the rows in which a class, defined here or imported, is something else than called."""
+    called = [node.func for node in ast.walk(tree) if isinstance(node, ast.Call)]
+    names = [node for node in ast.walk(tree) if isinstance(node, ast.Name) and node.id in classes]
+    return [node.lineno for node in names if node not in called]
+
+
+class Looks(unittest.TestCase):
+    """The looks for the other rules, each on rows that keep to it and on rows that don't."""
+
+    def check(self, look, kept, refused):
+        for text in kept:
+            with self.subTest(kept=text):
+                self.assertEqual(look(ast.parse(text)), [])
+        for text in refused:
+            with self.subTest(refused=text):
+                self.assertNotEqual(look(ast.parse(text)), [])
+
+    def test_values_of_the_top(self):
+        self.check(
+            stray_tops,
+            ["A = -1", "A = (1, (2, 'x'))", "A = {1: ((1, 2),), 2: ()}", "def f():\n    pass\nA = {1: f}", "A = None"],
+            ["A = 1 + 1", "A = f", "A = {1: f}\ndef f():\n    pass", "A = {1: []}", "A = [{}]", "A = len('x')"],
+        )
+
+    def test_lists_and_dicts_of_the_top(self):
+        head = "A = {}\ndef f(x):\n    "
+        self.check(
+            stray_tables,
+            [head + row for row in ("return A[x]", "return x in A", "return len(A)", "return dict(A)", "x = A.get(1)")],
+            [head + row for row in ("return A", "A[1] = x", "A.update(x)", "f(A)", "x = A", "A.pop(1)")],
+        )
+
+    def test_walks(self):
+        head = "def f(x, y):\n    "
+        self.check(
+            stray_walks,
+            [head + row for row in ("return list(range(x))", "return [k for k in range(x)]", "y = sorted(x.items())",
+                                    "for k in zip(x, y): pass", "for k in list(x): x.pop(k)",
+                                    "for k in x: y.append(k)", "for k in sorted(x): y[k] = x[k]")],
+            [head + row for row in ("return range(x)", "y = x.items()", "y = zip(x, y)", "f(enumerate(x))",
+                                    "for k in x: x.pop(k)", "for k in x.items(): x[k] = 1",
+                                    "for k in enumerate(x.all): x.all.append(k)")],
+        )
+
+    def test_functions_and_classes(self):
+        self.check(
+            stray_defs,
+            ["def f(a, b=1): pass", "class A:\n    def g(self): return 1", "class A(B):\n    def g(self): pass"],
+            ["def f(*a): pass", "def f(**a): pass", "def f(*, a): pass", "def f(a=g()): pass", "class A:\n    b = 1",
+             "class A(B, C):\n    def g(self): pass", "class A:\n    def g(self): pass\n    def g(self): pass",
+             "class A:\n    def __init__(self): return None"],
+        )
+
+    def test_classes(self):
+        self.check(lambda tree: stray_classes(tree, {"A"}), ["x = A()", "x = A(1).b"], ["x = A", "f(A)", "x = [A]"])
+
+
 class Stores(unittest.TestCase):
     """The look for rule L18, on rows that keep to it and on rows that don't."""
 
@@ -184,6 +347,17 @@ class Language(unittest.TestCase):
 
     def check_values_are_given_through_local_names(self, path, tree):
         self.assertEqual(stray_stores(tree), [])
+
+    def test_values_walks_functions_and_classes(self):
+        self.for_each_file(self.check_values_walks_functions_and_classes)
+
+    def check_values_walks_functions_and_classes(self, path, tree):
+        classes = {node.name for each in FILES for node in tree_of(each).body if isinstance(node, ast.ClassDef)}
+        self.assertEqual(stray_tops(tree), [])
+        self.assertEqual(stray_tables(tree), [])
+        self.assertEqual(stray_walks(tree), [])
+        self.assertEqual(stray_defs(tree), [])
+        self.assertEqual(stray_classes(tree, classes), [])
 
     def test_names(self):
         self.for_each_file(self.check_names)

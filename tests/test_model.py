@@ -12,7 +12,11 @@ from tests.helper import BILLION, HUGE, line, split
 
 RANGES = [
     [(2, 4), (1, 3), (1, 100)], [(1, 4), (1, 4), (1, 3), (-BILLION, BILLION)], [(1, 4)], [(1, 4)], [], [(1, 40)],
-    [(1, 40)], [(1, 40)], [(1, 5)], [(1, 4)],
+    [(1, 40)], [(1, 40)], [(1, 5)], [(1, 4)], [(1, 4)], [(1, 4)], [(1, 4)], [(1, 4)], [(1, 4)], [], [], [], [(1, 3)],
+]
+NAMES = [
+    "begin", "write", "clear", "send", "tick", "deliver", "lose", "double", "calm", "party", "house", "draft", "held",
+    "final", "belief", "flying", "unmatched", "now", "total",
 ]
 
 
@@ -29,8 +33,7 @@ class Model:
             return [0]
         if self.state is None:
             return [-2]
-        names = ["", "write", "clear", "send", "tick", "deliver", "lose", "double", "calm", "party"]
-        return getattr(self, names[number])(*numbers)
+        return getattr(self, NAMES[number])(*numbers)
 
     def begin(self, parties, quarters, gate):
         everyone = range(1, parties + 1)
@@ -138,8 +141,11 @@ class Model:
             return [-6]
         message = self.take(place)
         self.arrive(message)
+        return [0] + self.shown(message)
+
+    def shown(self, message):
         rows = [amount for amount in message[3].values() if amount != 0]
-        return [0, message[0], message[1], message[2], len(rows)]
+        return [message[0], message[1], message[2], len(rows)]
 
     def lose(self, place):
         if place > len(self.state["net"]):
@@ -169,6 +175,53 @@ class Model:
         believes = 0 if s["belief", p] is None else 1
         return [0, s["version", p], s["acked", p], s["waits", p], s["late", p], believes]
 
+    def house(self, p):
+        if p not in self.everyone:
+            return [-3]
+        return [0, self.state["house", p], self.state["seen", p]]
+
+    def rows(self, sheet):
+        # The blank sheet was made by party and then by quarter, so a walk along it is in the order of rows.
+        return [0] + [number for key in self.blank if sheet[key] != 0 for number in (*key, sheet[key])]
+
+    def draft(self, p):
+        return self.rows(self.state["draft", p]) if p in self.everyone else [-3]
+
+    def held(self, p):
+        return self.rows(self.state["held", p]) if p in self.everyone else [-3]
+
+    def final(self, p):
+        if p not in self.everyone:
+            return [-3]
+        return self.rows(self.matched(p)) if self.state["closed"] else [-8]
+
+    def belief(self, p):
+        if p not in self.everyone:
+            return [-3]
+        sheet = self.state["belief", p]
+        return [-8] if sheet is None else self.rows(sheet)
+
+    def flying(self):
+        return sum([self.shown(message) for message in self.state["net"]], [0])
+
+    def unmatched(self):
+        answer = [0]
+        for p in self.everyone:
+            for r, q in self.blank:
+                one = self.state["held", p][r, q]
+                other = self.state["held", r][p, q]
+                if p < r and one + other != 0:
+                    answer += [p, r, q, one, other]
+        return answer
+
+    def now(self):
+        return [0, self.state["time"], self.state["closed"]]
+
+    def total(self, quarter):
+        if quarter > self.quarters:
+            return [-4]
+        return [0] + [sum(amount for (r, q), amount in self.matched(p).items() if q == quarter) for p in self.everyone]
+
 
 def any_number(dice, least, greatest):
     roll = dice.randrange(40)
@@ -189,7 +242,7 @@ def any_place(dice):
 
 
 def any_call(dice, weights):
-    number = dice.choices(range(10), weights)[0]
+    number = dice.choices(range(19), weights)[0]
     if number in (5, 6, 7):
         return (number, any_place(dice))
     if number == 0:
@@ -197,14 +250,21 @@ def any_call(dice, weights):
     return (number,) + tuple(any_number(dice, *bounds) for bounds in RANGES[number])
 
 
-# How often each call comes: even; a net that fills; a net that is emptied; many sends; few opens.
+# How often each of the calls 0 to 8 comes: even; a net that fills; a net that is emptied; many sends; few opens;
+# much that is matched. Behind it, how often each of the ten questions comes.
 WEIGHTS = [
-    [1] * 10,
-    [0, 8, 1, 12, 8, 3, 1, 8, 0, 2],
-    [0, 12, 1, 10, 3, 25, 3, 4, 1, 8],
-    [0, 3, 1, 60, 2, 20, 10, 2, 1, 5],
-    [1, 20, 2, 15, 10, 40, 5, 8, 4, 20],
+    [1] * 9 + [1] * 10,
+    [0, 8, 1, 12, 8, 3, 1, 8, 0] + [1] * 10,
+    [0, 12, 1, 10, 3, 25, 3, 4, 1] + [3] * 10,
+    [0, 3, 1, 60, 2, 20, 10, 2, 1] + [2] * 10,
+    [1, 20, 2, 15, 10, 40, 5, 8, 4] + [4] * 10,
+    [0, 30, 0, 10, 2, 30, 1, 1, 0] + [3] * 10,
 ]
+REFUSALS = [
+    [], [-3, -4], [-3], [-3, -5], [], [-6], [-6], [-6, -7], [], [-3], [-3], [-3], [-3], [-3, -8], [-3, -8], [], [], [],
+    [-4],
+]
+WITHOUT_NUMBERS = (4, 15, 16, 17)
 
 
 class AgainstTheModel(unittest.TestCase):
@@ -220,6 +280,7 @@ class AgainstTheModel(unittest.TestCase):
 
     def test_long_lines(self):
         met = {}
+        longest = {}
         for seed in range(300):
             dice = random.Random(seed)
             weights = WEIGHTS[seed % len(WEIGHTS)]
@@ -228,12 +289,17 @@ class AgainstTheModel(unittest.TestCase):
             for call, answer in zip(calls, self.compare(calls)):
                 key = (call[0], min(answer[0], 0), answer[1] if call[0] == 5 and answer[0] == 0 else 0)
                 met[key] = met.get(key, 0) + 1
-        # Each call's every way was met, each kind of message arrived.
-        for number, refusals in enumerate([[], [-3, -4], [-3], [-3, -5], [], [-6], [-6], [-6, -7], [], [-3]]):
-            for refusal in refusals + ([-1] if number != 4 else []):
+                longest[call[0]] = max(longest.get(call[0], 0), len(answer))
+        # Each call's every way was met, each kind of message arrived, and the questions had something to tell.
+        for number, refusals in enumerate(REFUSALS):
+            for refusal in refusals + ([] if number in WITHOUT_NUMBERS else [-1]):
                 self.assertIn((number, refusal, 0), met)
+            self.assertTrue(any(key[:2] == (number, 0) for key in met))
         for kind in (1, 2, 3, 4, 5):
             self.assertIn((5, 0, kind), met)
+        self.assertGreater(min(longest[number] for number in (11, 12, 13, 14)), 9)
+        self.assertEqual(longest[15], 161)
+        self.assertGreater(longest[16], 40)
 
     def test_short_lines_from_nothing_open(self):
         for seed in range(400):
